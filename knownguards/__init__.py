@@ -1,0 +1,1 @@
+"""The greatest guard for what is known of programs over cells."""

@@ -1,0 +1,77 @@
+"""What several tests need: a check of errors, and lots that are made up by a fixed seed."""
+
+import random
+import unittest
+
+from knownguards.lots import Lot, function_shape
+
+
+class GuardCase(unittest.TestCase):
+    """A test case that can check an error together with all that it tells."""
+
+    def refuses(self, error, told, call, *arguments):
+        """The call raises just this error with just these attributes (True is not taken for 1)."""
+        with self.assertRaises(error) as caught:
+            call(*arguments)
+        self.assertIs(type(caught.exception), error)
+        self.assertEqual(repr(vars(caught.exception)), repr(told))
+
+
+# things of kinds that stand nowhere in a lot; no sequences and no whole numbers
+OTHER_KINDS = (None, True, False, "0", b"0", 1.0, {}, {0: 1}, set(), range(1), object(), len)
+
+
+def blind_lot(*sizes):
+    """A lot of one cell whose programs have so many steps."""
+    return Lot(1, [[(0, "any", (), 0)] * size for size in sizes])
+
+
+def made_up_step(rng, cells, steps, name):
+    """A good step behind these steps of its program."""
+    place = len(steps)
+    gone_by = [other for other in range(place) if steps[other][1] != "adds" and rng.random() < 0.5]
+    cell = rng.randrange(cells)
+    kind = rng.choice(("any", "any", "any", "kept", "adds"))
+    if kind == "kept":
+        return cell, kind, (), -1
+    if kind == "any" and rng.random() < 0.5:
+        gone_by.append(place)
+    return cell, kind, tuple(gone_by), name
+
+
+def with_shared_names(rng, programs):
+    """The programs, with some of the steps that may do the same function bearing one name."""
+    names = {}
+    shared = []
+    for steps in programs:
+        shared.append([])
+        for cell, kind, goes_by, name in steps:
+            shape = function_shape((cell, kind, goes_by, name))
+            if kind != "kept" and shape in names and rng.random() < 0.4:
+                name = rng.choice(names[shape])
+            names.setdefault(shape, []).append(name)
+            shared[-1].append((cell, kind, goes_by, name))
+    return shared
+
+
+def made_up_lot(rng):
+    """Any lot."""
+    cells = rng.randint(1, 3)
+    while True:
+        sizes = [rng.randint(1, 4) for _ in range(rng.randint(1, 3))]
+        if sum(sizes) <= 7:
+            break
+    names = rng.sample(range(100), 7)
+    programs = []
+    for size in sizes:
+        steps = []
+        for _ in range(size):
+            steps.append(made_up_step(rng, cells, steps, names.pop()))
+        programs.append(steps)
+    return Lot(cells, with_shared_names(rng, programs))
+
+
+def made_up_lots(many, seed):
+    """So many lots, the same ones for the same seed."""
+    rng = random.Random(seed)
+    return [made_up_lot(rng) for _ in range(many)]

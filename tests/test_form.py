@@ -1,0 +1,79 @@
+"""The form of the package: its files, its interface, and the rules of form that a test can see."""
+
+import ast
+import inspect
+import importlib
+import pathlib
+import unittest
+
+import knownguards
+
+FOLDER = pathlib.Path(knownguards.__file__).parent
+
+INTERFACE = {
+    "wholes": {"is_whole": "thing low high", "is_sequence": "thing"},
+    "steps": {"check_step": "step cells place"},
+    "lots": {
+        "check_program": "lot program", "step_of": "lot program place", "function_shape": "step",
+        "Lot": "cells programs",
+    },
+}
+
+LIBRARY = {"heapq", "math", "itertools", "collections"}
+
+
+def sources():
+    """The files of the package and their texts."""
+    return {path.name: path.read_text("utf-8") for path in sorted(FOLDER.glob("*.py"))}
+
+
+class InterfaceTest(unittest.TestCase):
+    def test_each_name_is_defined_in_its_own_file_with_its_arguments(self):
+        for module, names in INTERFACE.items():
+            found = importlib.import_module(f"knownguards.{module}")
+            for name, arguments in names.items():
+                with self.subTest(module=module, name=name):
+                    thing = getattr(found, name)
+                    self.assertEqual(thing.__module__, f"knownguards.{module}")
+                    self.assertEqual(" ".join(inspect.signature(thing).parameters), arguments)
+
+
+class FormTest(unittest.TestCase):
+    def test_the_folder_holds_nothing_but_python_files(self):
+        others = [path.name for path in FOLDER.iterdir() if path.suffix != ".py" and path.name != "__pycache__"]
+        self.assertEqual(others, [])
+        self.assertTrue((FOLDER / "__init__.py").exists())
+
+    def test_sizes_and_signs(self):
+        for name, text in sources().items():
+            with self.subTest(name):
+                lines = text.splitlines()
+                self.assertLessEqual(len(lines), 399)
+                self.assertLessEqual(max(len(line) for line in lines), 120)
+                self.assertTrue(all(sign == "\n" or " " <= sign <= "~" for sign in text))
+
+    def test_functions_have_at_most_40_lines(self):
+        for name, text in sources().items():
+            for node in ast.walk(ast.parse(text)):
+                if isinstance(node, ast.FunctionDef):
+                    with self.subTest(name, function=node.name):
+                        self.assertLessEqual(node.end_lineno - node.lineno + 1, 40)
+
+    def test_imports_are_of_the_package_and_of_the_allowed_library(self):
+        for name, text in sources().items():
+            for node in ast.walk(ast.parse(text)):
+                self.assertNotIsInstance(node, ast.Import, name)
+                if isinstance(node, ast.ImportFrom):
+                    with self.subTest(name, module=node.module):
+                        self.assertEqual(node.level, 0)
+                        self.assertTrue(node.module in LIBRARY or node.module.startswith("knownguards."))
+
+    def test_any_and_its_kin_take_no_generator_expression(self):
+        for name, text in sources().items():
+            for node in ast.walk(ast.parse(text)):
+                with self.subTest(name, line=getattr(node, "lineno", 0)):
+                    self.assertNotIsInstance(node, ast.GeneratorExp)
+
+
+if __name__ == "__main__":
+    unittest.main()
