@@ -75,3 +75,16 @@ def made_up_lots(many, seed):
     """So many lots, the same ones for the same seed."""
     rng = random.Random(seed)
     return [made_up_lot(rng) for _ in range(many)]
+
+
+def places_of(lot):
+    """All (program, place) of the lot, ascending."""
+    return [(program, place) for program, size in enumerate(lot.sizes) for place in range(size)]
+
+
+def all_facts(lot):
+    """All facts of the lot."""
+    places = places_of(lot)
+    facts = [("without", *at, pocket) for at in places for pocket in range(at[1] + 1)]
+    facts += [(word, *at) for word in ("kept", "adds") for at in places]
+    return facts + [("same", *one, *other) for one in places for other in places if one < other]

@@ -17,6 +17,28 @@ INTERFACE = {
         "check_program": "lot program", "step_of": "lot program place", "function_shape": "step",
         "Lot": "cells programs",
     },
+    "weavings": {
+        "check_weaving": "lot weaving", "check_row": "lot row", "weaving_count": "sizes", "all_weavings": "lot",
+        "unwoven_weavings": "lot", "is_unwoven": "lot weaving", "row_weaving": "lot row",
+        "placed_steps": "lot weaving", "weaving_without": "lot weaving program",
+    },
+    "facts": {
+        "is_fact": "lot fact", "cells_floor": "lot", "with_facts": "lot facts", "own_facts": "lot",
+        "facts_borne": "lot facts",
+    },
+    "lottexts": {
+        "lot_text": "lot", "lot_of_text": "text", "weaving_text": "lot weaving", "weaving_of_text": "lot text",
+        "fact_text": "lot fact", "fact_of_text": "lot text",
+    },
+    "worths": {
+        "is_worth": "thing", "begun_store": "cells", "made_worth": "name worths",
+        "added_worth": "worth name worths", "parts_of": "worth", "bags_within": "worth", "closed_worths": "worths",
+        "worth_text": "worth",
+    },
+    "outcomes": {
+        "outcome_of": "lot weaving", "store_moments": "lot weaving", "pockets_of": "lot weaving",
+        "outcome_of_wholes": "lot row",
+    },
 }
 
 LIBRARY = {"heapq", "math", "itertools", "collections"}
