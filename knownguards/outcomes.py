@@ -1,6 +1,7 @@
 """Weavings and rows of wholes, run over free worths."""
 
 from knownguards.errors import TooLong
+from knownguards.runs import run_steps
 from knownguards.weavings import check_row, check_weaving
 from knownguards.worths import added_worth, begun_store, made_worth
 
@@ -14,37 +15,19 @@ def outcome_of(lot, weaving):
 
 def store_moments(lot, weaving):
     """Return the store at the beginning and then the store behind each step."""
-    moments, _ = _run(lot, check_weaving(lot, weaving))
+    moments, _ = _run(lot, check_weaving(lot, weaving), begun_store(lot.cells))
     return tuple(moments)
 
 
 def pockets_of(lot, weaving):
     """Return the pockets of the steps of each program."""
-    _, pockets = _run(lot, check_weaving(lot, weaving))
+    _, pockets = _run(lot, check_weaving(lot, weaving), begun_store(lot.cells))
     return tuple([tuple(row) for row in pockets])
 
 
-def _run(lot, weaving):
+def _run(lot, programs, store):
     """Return the stores of all moments and the pockets of each program."""
-    store = list(begun_store(lot.cells))
-    pockets = [[] for _ in lot]
-    moments = [tuple(store)]
-    for program in weaving:
-        place = len(pockets[program])
-        _do_step(lot.programs[program][place], store, pockets[program])
-        moments.append(tuple(store))
-    return moments, pockets
-
-
-def _do_step(step, store, pockets):
-    """Do one step: put its look behind the pockets of its program and change its cell of the store."""
-    cell, kind, goes_by, name = step
-    pockets.append(store[cell])
-    taken = [pockets[place] for place in goes_by]
-    if kind == "any":
-        store[cell] = made_worth(name, taken)
-    elif kind == "adds":
-        store[cell] = added_worth(store[cell], name, taken)
+    return run_steps(lot, programs, store, made_worth, added_worth)
 
 
 def outcome_of_wholes(lot, row):
@@ -54,9 +37,8 @@ def outcome_of_wholes(lot, row):
     steps = sum([sizes[program] for program in checked])
     if steps > MOST_STEPS_OF_ROW:
         raise TooLong(steps)
-    store = list(begun_store(lot.cells))
+    store = begun_store(lot.cells)
     for program in checked:
-        pockets = []
-        for step in lot.programs[program]:
-            _do_step(step, store, pockets)
-    return tuple(store)
+        moments, _ = _run(lot, [program] * sizes[program], store)
+        store = moments[-1]
+    return store

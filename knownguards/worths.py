@@ -69,7 +69,7 @@ def added_worth(worth, name, worths):
 
 def parts_of(worth):
     """Return all worths that stand directly in the base or in a turn, ascending, each once."""
-    return tuple(_each_once(_held_worths(worth)))
+    return tuple(each_once(_held_worths(worth)))
 
 
 def _held_worths(worth):
@@ -81,7 +81,7 @@ def _held_worths(worth):
     return [held for _, worths in calls for held in worths]
 
 
-def _each_once(things):
+def each_once(things):
     """Return the things ascending, each once."""
     # things may be nested too deep for a set, so equal ones are found as neighbours
     unlike = []
@@ -96,19 +96,19 @@ def bags_within(worth):
     base, bag = worth
     parts = [()]
     for turn in bag:
-        parts = _each_once(parts + [(*part, turn) for part in parts])
+        parts = each_once(parts + [(*part, turn) for part in parts])
     return tuple([(base, part) for part in parts])
 
 
 def closed_worths(worths):
     """Return the least closed set that has all these worths, ascending, each once."""
-    layer = _each_once(worths)
+    layer = each_once(worths)
     whole = layer
     while layer:
-        layer = _each_once([part for worth in layer for part in parts_of(worth)])
-        whole = _each_once(whole + layer)
+        layer = each_once([part for worth in layer for part in parts_of(worth)])
+        whole = each_once(whole + layer)
     # a lesser bag has no parts that the whole bag has not, so these need no further round
-    return tuple(_each_once([lesser for worth in whole for lesser in bags_within(worth)]))
+    return tuple(each_once([lesser for worth in whole for lesser in bags_within(worth)]))
 
 
 def worth_text(worth):

@@ -4,6 +4,7 @@ import random
 import unittest
 
 from knownguards.lots import Lot, function_shape
+from knownguards.worths import added_worth, made_worth
 
 
 class GuardCase(unittest.TestCase):
@@ -88,3 +89,55 @@ def all_facts(lot):
     facts = [("without", *at, pocket) for at in places for pocket in range(at[1] + 1)]
     facts += [(word, *at) for word in ("kept", "adds") for at in places]
     return facts + [("same", *one, *other) for one in places for other in places if one < other]
+
+
+def closure(worths):
+    """The least closed set, found one worth after the other."""
+    found, waiting = set(), list(worths)
+    while waiting:
+        worth = waiting.pop()
+        if worth not in found:
+            found.add(worth)
+            base, bag = worth
+            waiting += [part for _, parts in bag + ((base[1:],) if base[0] else ()) for part in parts]
+            waiting += [(base, bag[:at] + bag[at + 1:]) for at in range(len(bag))]
+    return tuple(sorted(found))
+
+
+def number_in(house, worth):
+    return house.worths.index(worth) if worth in house.worths else len(house.worths)
+
+
+def brute_change(house, step, number, pockets):
+    """What a step puts on its cell in the small house, looked up among all its worths."""
+    junk = len(house.worths)
+    cell, kind, goes_by, name = step
+    numbers = [pockets[place] for place in goes_by]
+    if kind == "kept":
+        return number
+    if junk in numbers or kind == "adds" and number == junk:
+        return junk
+    worths = tuple(house.worths[k] for k in numbers)
+    if kind == "any":
+        return number_in(house, made_worth(name, worths))
+    return number_in(house, added_worth(house.worths[number], name, worths))
+
+
+def brute_run(house, store, weaving):
+    """The small store behind the steps of these programs, from the first one of each."""
+    store, pockets = list(store), [[] for _ in house.lot]
+    for program in weaving:
+        step = house.lot.programs[program][len(pockets[program])]
+        pockets[program].append(store[step[0]])
+        store[step[0]] = brute_change(house, step, store[step[0]], pockets[program])
+    return tuple(store)
+
+
+def brute_stores(house, store):
+    found, waiting = set(), [store]
+    while waiting:
+        store = waiting.pop()
+        if store not in found:
+            found.add(store)
+            waiting += [brute_run(house, store, [program] * size) for program, size in enumerate(house.lot.sizes)]
+    return tuple(sorted(found))

@@ -39,6 +39,39 @@ INTERFACE = {
         "outcome_of": "lot weaving", "store_moments": "lot weaving", "pockets_of": "lot weaving",
         "outcome_of_wholes": "lot row",
     },
+    "lengths": {
+        "split_of": "lot weaving", "lengths_bar": "lot weaving", "House": "lot modulus tables start stores",
+    },
+    "orders": {
+        "meetings_of": "lot weaving", "check_order": "lot programs", "order_fault": "lot weaving programs",
+        "all_orders": "lot weaving", "order_for": "lot weaving", "ring_fault": "lot weaving ring",
+        "swap_walk": "lot weaving programs", "Order": "programs", "Ring": "links",
+    },
+    "smallhouses": {
+        "told_worths": "lot weaving", "check_small": "house store", "small_begin": "house",
+        "small_step": "house store program", "small_run": "house store weaving", "small_row": "house store row",
+        "stores_from": "house store", "SmallHouse": "lot worths",
+    },
+    "letting": {
+        "letting": "lot weaving", "is_let": "lot weaving", "let_weavings": "lot", "knows_less": "lot facts more",
+        "Let": "row", "Bar": "worths start stores",
+    },
+    "bars": {"let_fault": "lot weaving let", "bar_fault": "lot weaving bar"},
+}
+
+METHODS = {
+    ("lots", "Lot"): {
+        "renamed": "self", "with_program": "self steps", "without_program": "self program", "__eq__": "self other",
+        "__len__": "self", "__iter__": "self",
+    },
+    ("lengths", "House"): {"__eq__": "self other"},
+    ("orders", "Order"): {"__eq__": "self other"},
+    ("orders", "Ring"): {"__eq__": "self other"},
+    ("smallhouses", "SmallHouse"): {
+        "number_of": "self worth", "made_number": "self name numbers", "added_number": "self number name numbers",
+    },
+    ("letting", "Let"): {"__eq__": "self other"},
+    ("letting", "Bar"): {"__eq__": "self other"},
 }
 
 LIBRARY = {"heapq", "math", "itertools", "collections"}
@@ -58,6 +91,15 @@ class InterfaceTest(unittest.TestCase):
                     thing = getattr(found, name)
                     self.assertEqual(thing.__module__, f"knownguards.{module}")
                     self.assertEqual(" ".join(inspect.signature(thing).parameters), arguments)
+
+
+    def test_each_method_stands_in_its_own_class_with_its_arguments(self):
+        for (module, name), methods in METHODS.items():
+            found = getattr(importlib.import_module(f"knownguards.{module}"), name)
+            for method, arguments in methods.items():
+                with self.subTest(module=module, name=name, method=method):
+                    self.assertIn(method, vars(found))
+                    self.assertEqual(" ".join(inspect.signature(vars(found)[method]).parameters), arguments)
 
 
 class FormTest(unittest.TestCase):
