@@ -2,9 +2,10 @@
 
 from knownguards.errors import BadHouse, BadRow, BadSmallStore
 from knownguards.outcomes import outcome_of
+from knownguards.searches import are_kept
 from knownguards.smallhouses import SmallHouse, check_small, small_begin, small_row, small_run, small_step, told_worths
 from knownguards.weavings import check_row, check_weaving
-from knownguards.wholes import is_sequence
+from knownguards.wholes import is_ascending, is_sequence
 from knownguards.worths import is_worth
 
 
@@ -30,12 +31,12 @@ def bar_fault(lot, weaving, bar):
         return "parts"
     try:
         start = check_small(house, bar.start)
-        stores = {store: True for store in _checked_stores(house, bar.stores)}
+        stores = _checked_stores(house, bar.stores)
     except BadSmallStore:
         return "stores"
     if start not in stores:
         return "stores"
-    if not _is_kept(house, stores):
+    if not are_kept(stores, len(lot), lambda led, program: small_step(house, led, program)):
         return "keeps"
     return "breaks" if small_run(house, start, checked) in stores else None
 
@@ -44,12 +45,7 @@ def _are_worths(thing):
     """Tell whether a thing is a sequence of ascending unlike worths."""
     if not is_sequence(thing) or not all([is_worth(worth) for worth in thing]):
         return False
-    return _is_ascending(thing)
-
-
-def _is_ascending(row):
-    """Tell whether a row is ascending without duplicates."""
-    return all([item < following for item, following in zip(row, row[1:])])
+    return is_ascending(thing)
 
 
 def _checked_stores(house, stores):
@@ -57,15 +53,6 @@ def _checked_stores(house, stores):
     if not is_sequence(stores):
         raise BadSmallStore()
     checked = [check_small(house, store) for store in stores]
-    if not _is_ascending(checked):
+    if not is_ascending(checked):
         raise BadSmallStore()
     return checked
-
-
-def _is_kept(house, stores):
-    """Tell whether each program leads each of the stores to one of them."""
-    for store in stores:
-        for program in range(len(house.lot)):
-            if small_step(house, store, program) not in stores:
-                return False
-    return True

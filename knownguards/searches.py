@@ -1,6 +1,6 @@
-"""Searches among what programs, done whole one behind another, lead to.
+"""What programs, done whole one behind another, lead to.
 
-What is searched are tuples of numbers, or tuples of such tuples; lead(state, program) is what a program leads one to.
+A state is a tuple of numbers, or a tuple of such tuples; lead(state, program) is what the program leads it to.
 """
 
 
@@ -38,3 +38,13 @@ def _ways_from(start, goal, many, lead):
                     following.append(after)
         layer = following
     return ways
+
+
+def are_kept(states, many, lead):
+    """Tell whether each of so many programs leads each of the states to one of them."""
+    known = {state: True for state in states}
+    for state in states:
+        for program in range(many):
+            if lead(state, program) not in known:
+                return False
+    return True

@@ -1,4 +1,4 @@
-"""What is an integer and what is a sequence."""
+"""What is an integer, what is a sequence, and what is ascending."""
 
 
 def is_whole(thing, low=None, high=None):
@@ -12,3 +12,8 @@ def is_whole(thing, low=None, high=None):
 def is_sequence(thing):
     """Tell whether a thing is a list or a tuple."""
     return isinstance(thing, (list, tuple))
+
+
+def is_ascending(row):
+    """Tell whether a row of things that can be compared is ascending, none of them twice."""
+    return all([item < following for item, following in zip(row, row[1:])])

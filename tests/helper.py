@@ -1,9 +1,11 @@
 """What several tests need: a check of errors, and lots that are made up by a fixed seed."""
 
+import itertools
 import random
 import unittest
 
 from knownguards.lots import Lot, function_shape
+from knownguards.meanings import Meaning
 from knownguards.worths import added_worth, made_worth
 
 
@@ -141,3 +143,58 @@ def brute_stores(house, store):
             found.add(store)
             waiting += [brute_run(house, store, [program] * size) for program, size in enumerate(house.lot.sizes)]
     return tuple(sorted(found))
+
+
+def made_up_meaning(rng, lot, modulus):
+    """Any meaning of this modulus that fits the lot, with a further name if one is free."""
+    tables = {}
+    for steps in lot:
+        for _, kind, goes_by, name in steps:
+            if kind != "kept" and name not in tables:
+                tables[name] = [rng.randrange(modulus) for _ in range(modulus ** len(goes_by))]
+    tables.setdefault(rng.randrange(100), [rng.randrange(modulus) for _ in range(modulus ** rng.randrange(5))])
+    couples = list(tables.items())
+    rng.shuffle(couples)
+    return Meaning(modulus, couples)
+
+
+def plain_moments(lot, modulus, tables, programs, store):
+    """The stores when the steps of these programs are done, by a dict of the tables; a done program begins anew."""
+    store, pockets, moments = list(store), [[] for _ in lot], [tuple(store)]
+    for program in programs:
+        if len(pockets[program]) == lot.sizes[program]:
+            pockets[program] = []
+        cell, kind, goes_by, name = lot.programs[program][len(pockets[program])]
+        pockets[program].append(store[cell])
+        if kind != "kept":
+            rows = list(itertools.product(range(modulus), repeat=len(goes_by)))
+            entry = tables[name][rows.index(tuple(pockets[program][place] for place in goes_by))]
+            store[cell] = entry if kind == "any" else (store[cell] + entry) % modulus
+        moments.append(tuple(store))
+    return tuple(moments)
+
+
+def plain_stores(lot, modulus):
+    """All stores, ascending."""
+    return tuple(itertools.product(range(modulus), repeat=lot.cells))
+
+
+def row_steps(lot, row):
+    """The row of wholes step by step."""
+    return [program for program in row for _ in range(lot.sizes[program])]
+
+
+def plain_rows(lot, modulus, tables, store):
+    """For each store of its closed lot the shortest and then least row of wholes to it, found by one longer row each time."""
+    rows, found = {store: ()}, [store]
+    while found:
+        longer = {}
+        for reached in found:
+            for program in range(len(lot)):
+                after = plain_moments(lot, modulus, tables, row_steps(lot, [program]), reached)[-1]
+                if after not in rows:
+                    row = rows[reached] + (program,)
+                    longer[after] = min(row, longer.get(after, row))
+        rows.update(longer)
+        found = list(longer)
+    return rows

@@ -57,6 +57,21 @@ INTERFACE = {
         "Let": "row", "Bar": "worths start stores",
     },
     "bars": {"let_fault": "lot weaving let", "bar_fault": "lot weaving bar"},
+    "meanings": {
+        "check_meaning": "lot meaning", "all_stores": "lot modulus", "check_store": "lot meaning store",
+        "run_weaving": "lot meaning weaving store", "run_moments": "lot meaning weaving store",
+        "run_program": "lot meaning program store", "run_wholes": "lot meaning row store",
+        "Meaning": "modulus tables",
+    },
+    "reading": {"read_worth": "lot meaning worth store", "read_store": "lot meaning worths store"},
+    "closedlots": {
+        "closed_lot": "lot meaning store", "way_to": "lot meaning store goal", "lets_under": "lot meaning weaving",
+        "let_under": "lot meaning", "one_row": "lot meaning weaving", "Ends": "rows", "Breaks": "store stores",
+    },
+    "bits": {
+        "cells_meaning": "lot meaning", "bit_bar": "lot weaving", "bit_fault": "lot weaving bar",
+        "house_meaning": "house", "BitBar": "meaning store stores",
+    },
 }
 
 METHODS = {
@@ -72,6 +87,10 @@ METHODS = {
     },
     ("letting", "Let"): {"__eq__": "self other"},
     ("letting", "Bar"): {"__eq__": "self other"},
+    ("meanings", "Meaning"): {"table_of": "self name", "__eq__": "self other"},
+    ("closedlots", "Ends"): {"__eq__": "self other"},
+    ("closedlots", "Breaks"): {"__eq__": "self other"},
+    ("bits", "BitBar"): {"__eq__": "self other"},
 }
 
 LIBRARY = {"heapq", "math", "itertools", "collections"}

@@ -3,7 +3,7 @@
 import unittest
 
 from helper import OTHER_KINDS
-from knownguards.wholes import is_sequence, is_whole
+from knownguards.wholes import is_ascending, is_sequence, is_whole
 
 
 class WholesTest(unittest.TestCase):
@@ -41,6 +41,12 @@ class WholesTest(unittest.TestCase):
         for thing in (*OTHER_KINDS, "ab", {1, 2}, {1: 2}.keys(), iter([1]), 0):
             with self.subTest(repr(thing)):
                 self.assertIs(is_sequence(thing), False)
+
+    def test_ascending_rows(self):
+        for row in ((), [], (3,), (1, 2, 9), [-1, 0], ((0,), (0, 1), (1,)), ["a", "b"]):
+            self.assertIs(is_ascending(row), True)
+        for row in ((1, 1), [2, 1], (1, 3, 2), ((0,), (0,)), ("b", "a", "c")):
+            self.assertIs(is_ascending(row), False)
 
 
 if __name__ == "__main__":
