@@ -198,3 +198,52 @@ def plain_rows(lot, modulus, tables, store):
         rows.update(longer)
         found = list(longer)
     return rows
+
+
+def all_sets(things):
+    """All sets of these ascending things: fewer things first, those of one size ascending."""
+    return [chosen for size in range(len(things) + 1) for chosen in itertools.combinations(things, size)]
+
+
+def least_of(chosen_sets):
+    """Those of the sets that hold no other of them."""
+    return tuple(one for one in chosen_sets if not any(set(other) < set(one) for other in chosen_sets))
+
+
+def greatest_of(chosen_sets):
+    """Those of the sets that lie in no other of them."""
+    return tuple(one for one in chosen_sets if not any(set(other) > set(one) for other in chosen_sets))
+
+
+def pool_facts(lot):
+    """All facts of the lot that may stand in a pool, ascending."""
+    return sorted(fact for fact in all_facts(lot) if fact[0] != "same")
+
+
+def clash(one, other):
+    """Two facts of a pool that cannot both be so, by the words of [6.6]."""
+    if one[1:3] != other[1:3] or one == other:
+        return False
+    words = {one[0], other[0]}
+    if words == {"kept", "adds"}:
+        return True
+    return "without" in words and len(words) == 2 and any(fact[3:] == fact[2:3] for fact in (one, other))
+
+
+def made_up_pool(rng, lot, most):
+    """At most so many facts that go together, in any order; those that tell most come sooner into it."""
+    facts = sorted(pool_facts(lot), key=lambda fact: rng.random() + (0.6 if fact[0] == "without" else 0))
+    pool = []
+    for fact in facts:
+        if len(pool) < most and not any(clash(fact, other) for other in pool):
+            pool.append(fact)
+    rng.shuffle(pool)
+    return pool
+
+
+def made_up_guard_weavings(rng, weavings, unwoven):
+    """The unwoven weavings with any of the others, in any order, some of them twice."""
+    chosen = list(unwoven) + [weaving for weaving in weavings if rng.random() < 0.4]
+    chosen += rng.sample(chosen, len(chosen) // 3)
+    rng.shuffle(chosen)
+    return chosen

@@ -72,6 +72,29 @@ INTERFACE = {
         "cells_meaning": "lot meaning", "bit_bar": "lot weaving", "bit_fault": "lot weaving bar",
         "house_meaning": "house", "BitBar": "meaning store stores",
     },
+    "leastfacts": {
+        "check_pool": "lot pool", "check_wish": "lot wish", "facts_let": "lot facts wish",
+        "least_facts": "lot pool wish", "barring_facts": "lot pool wish", "facts_fault": "lot facts wish",
+        "same_let": "lot one other", "idle_facts": "lot pool", "fullest_facts": "lot pool facts",
+    },
+    "houselaws": {
+        "check_stores": "lot meaning stores", "rule_fault": "lot meaning stores",
+        "right_fault": "lot meaning stores weaving", "least_rule": "lot meaning stores weavings",
+        "greatest_rule": "lot meaning stores weavings", "kept_rules": "lot meaning", "single_rules": "lot meaning",
+        "least_broken": "lot meaning weaving", "right_weavings": "lot meaning stores",
+        "brought_along": "lot meaning weavings",
+    },
+    "guards": {
+        "begins_let": "guard row", "next_let": "guard row", "lets_no_more": "guard other", "judged_guard": "guard",
+        "Guard": "lot weavings",
+    },
+    "live": {
+        "run_order": "guard order", "live_events": "guard order", "Live": "guard",
+        "Granted": "program place freed", "Held": "program", "Run": "weaving holds events",
+    },
+    "shares": {
+        "first_hold": "guard order", "held_orders": "guard", "share_of": "guard", "mean_holds": "guard",
+    },
 }
 
 METHODS = {
@@ -91,7 +114,19 @@ METHODS = {
     ("closedlots", "Ends"): {"__eq__": "self other"},
     ("closedlots", "Breaks"): {"__eq__": "self other"},
     ("bits", "BitBar"): {"__eq__": "self other"},
+    ("guards", "Guard"): {
+        "__len__": "self", "__iter__": "self", "__contains__": "self weaving", "__eq__": "self other",
+        "greatest": "lot", "unwoven": "lot", "whole": "lot",
+    },
+    ("live", "Live"): {"ask": "self program", "way_out": "self program"},
+    ("live", "Granted"): {"__eq__": "self other"},
+    ("live", "Held"): {"__eq__": "self other"},
+    ("live", "Run"): {"__eq__": "self other"},
 }
+
+PROPERTIES = {("lots", "Lot"): ("sizes", "total"), ("live", "Live"): ("granted", "held", "finished")}
+
+GENERATORS = {("houselaws", "kept_rules"), ("live", "live_events")}
 
 LIBRARY = {"heapq", "math", "itertools", "collections"}
 
@@ -111,7 +146,6 @@ class InterfaceTest(unittest.TestCase):
                     self.assertEqual(thing.__module__, f"knownguards.{module}")
                     self.assertEqual(" ".join(inspect.signature(thing).parameters), arguments)
 
-
     def test_each_method_stands_in_its_own_class_with_its_arguments(self):
         for (module, name), methods in METHODS.items():
             found = getattr(importlib.import_module(f"knownguards.{module}"), name)
@@ -119,6 +153,25 @@ class InterfaceTest(unittest.TestCase):
                 with self.subTest(module=module, name=name, method=method):
                     self.assertIn(method, vars(found))
                     self.assertEqual(" ".join(inspect.signature(vars(found)[method]).parameters), arguments)
+
+    def test_each_property_stands_in_its_own_class(self):
+        for (module, name), properties in PROPERTIES.items():
+            found = getattr(importlib.import_module(f"knownguards.{module}"), name)
+            for told in properties:
+                with self.subTest(module=module, name=name, property=told):
+                    self.assertIsInstance(vars(found)[told], property)
+
+    def test_generators_and_no_others(self):
+        for module, names in INTERFACE.items():
+            found = importlib.import_module(f"knownguards.{module}")
+            for name in names:
+                with self.subTest(module=module, name=name):
+                    self.assertEqual(inspect.isgeneratorfunction(getattr(found, name)), (module, name) in GENERATORS)
+
+    def test_weavings_may_be_left_out_where_rules_are_made(self):
+        found = importlib.import_module("knownguards.houselaws")
+        for name in ("least_rule", "greatest_rule"):
+            self.assertEqual(inspect.signature(getattr(found, name)).parameters["weavings"].default, ())
 
 
 class FormTest(unittest.TestCase):
