@@ -123,7 +123,8 @@ class Live:
         row = self.granted
         rests = [weaving[len(row):] for weaving in self.guard.weavings if weaving[:len(row)] == row]
         ways = [rest[:rest.index(program)] for rest in rests]
-        return min(ways, key=lambda way: (len(way), way))
+        _, shortest = min([(len(way), way) for way in ways])
+        return shortest
 
 
 def live_events(guard, order):
@@ -142,9 +143,9 @@ def live_events(guard, order):
                 yield "freed", freed
 
 
-def _first_not_held(rest, held):
-    """Return the first program in the rest of an order that is not held."""
-    return [program for program in rest if program not in held][0]
+def _first_not_held(rest, waiting):
+    """Return the first program in the rest of an order that does not wait."""
+    return [program for program in rest if program not in waiting][0]
 
 
 def run_order(guard, order):

@@ -73,8 +73,12 @@ def _least_turned(meetings, row):
 def all_orders(lot, weaving):
     """Return all orders for the weaving, ascending."""
     meetings = meetings_of(lot, weaving)
-    rows = _rows_of_unlike(len(lot), len(lot))
-    return tuple([row for row in rows if _least_turned(meetings, row) is None])
+    return tuple([row for row in rows_of_all(lot) if _least_turned(meetings, row) is None])
+
+
+def rows_of_all(lot):
+    """Return all rows of all programs, ascending."""
+    return _rows_of_unlike(len(lot), len(lot))
 
 
 def _rows_of_unlike(many, length):
@@ -145,8 +149,13 @@ def swap_walk(lot, weaving, programs):
     meeting = order_fault(lot, weaving, programs)
     if meeting is not None:
         raise OrderTurned(meeting)
-    walk = [check_weaving(lot, weaving)]
-    at = _leftmost_pair(walk[-1], programs)
+    return walk_by(check_weaving(lot, weaving), programs)
+
+
+def walk_by(weaving, programs):
+    """Return the weavings from this one to the unwoven one of a row of all programs, by exchanges of neighbours."""
+    walk = [weaving]
+    at = _leftmost_pair(weaving, programs)
     while at is not None:
         walk.append(_exchanged(walk[-1], at))
         at = _leftmost_pair(walk[-1], programs)

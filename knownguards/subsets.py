@@ -21,7 +21,7 @@ def is_within(things, others):
 
 def in_order(subsets):
     """Return the sets in the order of a row of sets."""
-    return sorted(subsets, key=lambda subset: (len(subset), subset))
+    return [subset for _, subset in sorted([(len(subset), subset) for subset in subsets])]
 
 
 def least_subsets(things, fits):

@@ -4,6 +4,8 @@ import itertools
 import random
 import unittest
 
+from knownguards.errors import BadFact
+from knownguards.facts import with_facts
 from knownguards.lots import Lot, function_shape
 from knownguards.meanings import Meaning
 from knownguards.worths import added_worth, made_worth
@@ -247,3 +249,25 @@ def made_up_guard_weavings(rng, weavings, unwoven):
     chosen += rng.sample(chosen, len(chosen) // 3)
     rng.shuffle(chosen)
     return chosen
+
+
+def with_unlike_names(lot):
+    """The lot with a name of its own for each step that is not kept."""
+    names = iter(range(lot.total))
+    return Lot(lot.cells, [
+        [(cell, kind, goes_by, -1 if kind == "kept" else next(names)) for cell, kind, goes_by, _ in steps]
+        for steps in lot
+    ])
+
+
+def taken_facts(rng, lot, facts, many):
+    """At most so many of these facts, any, that with_facts takes together over the lot."""
+    taken = []
+    for fact in sorted(facts, key=lambda fact: rng.random()):
+        try:
+            with_facts(lot, taken + [fact])
+        except BadFact:
+            continue
+        if len(taken) < many:
+            taken.append(fact)
+    return taken

@@ -95,6 +95,21 @@ INTERFACE = {
     "shares": {
         "first_hold": "guard order", "held_orders": "guard", "share_of": "guard", "mean_holds": "guard",
     },
+    "sources": {
+        "counted_looks": "lot", "find_sources": "lot weaving program place", "last_sources": "lot weaving",
+    },
+    "elder": {
+        "late_look": "lot weaving order", "elder_letting": "lot weaving", "elder_weavings": "lot",
+        "weavings_of_order": "lot order", "elder_pockets": "lot weaving order", "elder_final": "lot weaving order",
+        "elder_looks": "lot weaving order", "fewest_elder": "lot weaving", "elder_walk": "lot weaving order",
+        "EveryLate": "looks", "FewestElder": "programs looks",
+    },
+    "edits": {"edited_lot": "lot edit", "edited_through": "lot edits"},
+    "mends": {
+        "check_goals": "goals", "goal_met": "lot goal", "find_mends": "lot pool goals",
+        "mend_fault": "lot pool goals places",
+    },
+    "bench": {"Bench": "lot"},
 }
 
 METHODS = {
@@ -122,11 +137,20 @@ METHODS = {
     ("live", "Granted"): {"__eq__": "self other"},
     ("live", "Held"): {"__eq__": "self other"},
     ("live", "Run"): {"__eq__": "self other"},
+    ("elder", "EveryLate"): {"__eq__": "self other"},
+    ("elder", "FewestElder"): {"__eq__": "self other"},
+    ("bench", "Bench"): {
+        "make": "self edit", "take_back": "self", "trial": "self edits goals", "lots_made": "self", "__len__": "self",
+        "__iter__": "self",
+    },
 }
 
-PROPERTIES = {("lots", "Lot"): ("sizes", "total"), ("live", "Live"): ("granted", "held", "finished")}
+PROPERTIES = {
+    ("lots", "Lot"): ("sizes", "total"), ("live", "Live"): ("granted", "held", "finished"),
+    ("bench", "Bench"): ("current", "log"),
+}
 
-GENERATORS = {("houselaws", "kept_rules"), ("live", "live_events")}
+GENERATORS = {("houselaws", "kept_rules"), ("live", "live_events"), ("elder", "weavings_of_order")}
 
 LIBRARY = {"heapq", "math", "itertools", "collections"}
 

@@ -5,7 +5,7 @@ import random
 import unittest
 
 from helper import (
-    OTHER_KINDS, GuardCase, all_facts, all_sets, blind_lot, clash, greatest_of, least_of, made_up_lots, made_up_pool,
+    OTHER_KINDS, GuardCase, all_sets, blind_lot, clash, greatest_of, least_of, made_up_lots, made_up_pool,
     pool_facts,
 )
 from knownguards.errors import BadPool, BadWish, TooMany
@@ -132,7 +132,7 @@ class FactsLetTest(GuardCase):
                 self.assertIs(facts_let(lot, facts, wish), all(weaving in let[chosen] for weaving in wish))
 
     def test_more_facts_of_a_pool_let_no_less(self):
-        for lot, pool, let in pools_of_lots(20, "more"):
+        for _, _, let in pools_of_lots(20, "more"):
             for less, more in itertools.product(let, repeat=2):
                 if set(less) <= set(more):
                     self.assertLessEqual(set(let[less]), set(let[more]))

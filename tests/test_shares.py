@@ -6,9 +6,10 @@ import unittest
 
 from helper import (
     OTHER_KINDS, GuardCase, all_facts, blind_lot, made_up_guard_weavings, made_up_lot, made_up_lots, made_up_meaning,
+    taken_facts, with_unlike_names,
 )
 from knownguards.closedlots import let_under
-from knownguards.errors import BadFact, BadWeaving
+from knownguards.errors import BadWeaving
 from knownguards.facts import cells_floor, with_facts
 from knownguards.guards import Guard, lets_no_more
 from knownguards.houselaws import brought_along, least_rule, right_weavings
@@ -152,29 +153,12 @@ class MoreOrLessTest(GuardCase):
         rng = random.Random("unlike")
         grown = 0
         for shared in made_up_lots(40, "unlike"):
-            names = iter(range(7))
-            lot = Lot(shared.cells, [
-                [(cell, kind, goes_by, -1 if kind == "kept" else next(names)) for cell, kind, goes_by, _ in steps]
-                for steps in shared
-            ])
-            facts = taken_facts(rng, lot, 4)
+            lot = with_unlike_names(shared)
+            facts = taken_facts(rng, lot, all_facts(lot), 4)
             guard, other = Guard.greatest(lot), Guard(lot, let_weavings(with_facts(lot, facts)))
             self.check_no_more(guard, other)
             grown += len(guard) < len(other)
         self.assertGreater(grown, 3)
-
-
-def taken_facts(rng, lot, many):
-    """So many facts, any, that with_facts takes together."""
-    facts = []
-    for fact in sorted(all_facts(lot), key=lambda fact: rng.random()):
-        try:
-            with_facts(lot, facts + [fact])
-        except BadFact:
-            continue
-        if len(facts) < many:
-            facts.append(fact)
-    return facts
 
 
 class PartedTest(GuardCase):
