@@ -30,7 +30,7 @@ def _ways_from(start, goal, many, lead):
     # each layer stands in the order of the least rows to it, so the first way found is by the least row
     while layer and goal not in ways:
         following = []
-        for state in layer:
+        for state in list(layer):
             for program in range(many):
                 after = lead(state, program)
                 if after not in ways:

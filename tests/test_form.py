@@ -154,10 +154,66 @@ GENERATORS = {("houselaws", "kept_rules"), ("live", "live_events"), ("elder", "w
 
 LIBRARY = {"heapq", "math", "itertools", "collections"}
 
+CHANGING = {
+    "append", "clear", "extend", "insert", "pop", "remove", "reverse", "setdefault", "update", "sort", "add", "discard",
+}
+
 
 def sources():
     """The files of the package and their texts."""
     return {path.name: path.read_text("utf-8") for path in sorted(FOLDER.glob("*.py"))}
+
+
+def one_thing(function):
+    """For each name of the function, all names that some assignment gives to the same thing."""
+    groups = {}
+    for node in ast.walk(function):
+        if isinstance(node, ast.Assign):
+            names = [thing.id for thing in (*node.targets, node.value) if isinstance(thing, ast.Name)]
+            if len(names) > 1:
+                joined = set(names).union(*[groups.get(name, {name}) for name in names])
+                for name in joined:
+                    groups[name] = joined
+    return groups
+
+
+def walked(node):
+    """The names and attributes that a loop iterates over as they are, also through enumerate and the like."""
+    if isinstance(node, ast.Call) and isinstance(node.func, ast.Name):
+        if node.func.id in ("enumerate", "zip", "reversed"):
+            return [found for argument in node.args for found in walked(argument)]
+        return []
+    if isinstance(node, ast.Call) and isinstance(node.func, ast.Attribute):
+        return walked(node.func.value) if node.func.attr in ("items", "keys", "values") else []
+    if isinstance(node, (ast.IfExp, ast.BoolOp)):
+        parts = [node.body, node.orelse] if isinstance(node, ast.IfExp) else node.values
+        return [found for part in parts for found in walked(part)]
+    return [ast.unparse(node)] if isinstance(node, (ast.Name, ast.Attribute, ast.Subscript)) else []
+
+
+def changed(body):
+    """What rows of a loop change: by a method, an item, del or +=."""
+    for node in [node for row in body for node in ast.walk(row)]:
+        if isinstance(node, ast.Call) and isinstance(node.func, ast.Attribute) and node.func.attr in CHANGING:
+            yield ast.unparse(node.func.value)
+        if isinstance(node, ast.Subscript) and not isinstance(node.ctx, ast.Load):
+            yield ast.unparse(node.value)
+        if isinstance(node, ast.AugAssign):
+            yield ast.unparse(node.target)
+
+
+def walked_and_changed(text):
+    """The lines of loops that change what they iterate over, by its name or by another name of the same thing."""
+    lines = []
+    for function in ast.walk(ast.parse(text)):
+        if isinstance(function, ast.FunctionDef):
+            groups = one_thing(function)
+            for loop in ast.walk(function):
+                if isinstance(loop, ast.For):
+                    names = {name for found in walked(loop.iter) for name in groups.get(found, {found})}
+                    if names & set(changed(loop.body)):
+                        lines.append(loop.lineno)
+    return lines
 
 
 class InterfaceTest(unittest.TestCase):
@@ -227,6 +283,22 @@ class FormTest(unittest.TestCase):
                     with self.subTest(name, module=node.module):
                         self.assertEqual(node.level, 0)
                         self.assertTrue(node.module in LIBRARY or node.module.startswith("knownguards."))
+
+    def test_what_a_loop_walks_is_not_changed_in_it(self):
+        for name, text in sources().items():
+            with self.subTest(name):
+                self.assertEqual(walked_and_changed(text), [])
+
+    def test_loops_that_change_what_they_walk_are_found(self):
+        loops = (
+            "for x in xs:\n  xs.append(x)", "for k, x in enumerate(xs):\n  xs[k] = 0", "for k in d.items():\n  del d[k]",
+            "for x in self.xs:\n  self.xs.pop()", "ys = []\n while xs:\n  for x in xs:\n   ys.append(x)\n  xs = ys",
+            "for x in xs if c else ys:\n  ys.append(x)", "for x in xs:\n  xs += [x]",
+        )
+        for loop in loops:
+            self.assertNotEqual(walked_and_changed("def told(self, xs, ys, d, c):\n " + loop), [], loop)
+        for loop in ("for x in list(xs):\n  xs.append(x)", "for x in xs:\n  ys.append(x)"):
+            self.assertEqual(walked_and_changed("def told(self, xs, ys, d, c):\n " + loop), [], loop)
 
     def test_any_and_its_kin_take_no_generator_expression(self):
         for name, text in sources().items():
