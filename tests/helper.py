@@ -1,13 +1,18 @@
 """What several tests need: a check of errors, and lots that are made up by a fixed seed."""
 
+import fractions
 import itertools
 import random
 import unittest
 
-from knownguards.errors import BadFact
+from knownguards.elder import elder_weavings
+from knownguards.errors import BadFact, BadLot, BadStep
 from knownguards.facts import with_facts
+from knownguards.letting import let_weavings
 from knownguards.lots import Lot, function_shape
 from knownguards.meanings import Meaning
+from knownguards.steps import check_step
+from knownguards.weavings import all_weavings
 from knownguards.worths import added_worth, made_worth
 
 
@@ -271,3 +276,93 @@ def taken_facts(rng, lot, facts, many):
         if len(taken) < many:
             taken.append(fact)
     return taken
+
+
+def with_marks(lot):
+    """The programs with marks of their own for the steps, which go by marks instead of places."""
+    return [
+        [((program, place), cell, kind, {(program, other) for other in goes_by}, name)
+         for place, (cell, kind, goes_by, name) in enumerate(steps)]
+        for program, steps in enumerate(lot)
+    ]
+
+
+def of_marks(cells, marked):
+    """The lot of marked programs; KeyError if a step goes by a mark that is gone, BadLot if it is none."""
+    programs = []
+    for steps in marked:
+        places = {mark: place for place, (mark, *_) in enumerate(steps)}
+        programs.append([
+            (cell, kind, tuple(sorted(places[mark] for mark in goes_by)), name) for _, cell, kind, goes_by, name in steps
+        ])
+    return Lot(cells, programs)
+
+
+def plain_edit(lot, edit):
+    """The lot that comes, or the word that refuses the edit; its form and its step's or fact's form are good."""
+    word, *told = edit
+    if word == "fact":
+        try:
+            return with_facts(lot, told)
+        except BadFact:
+            return "fact"
+    program, place = told[:2]
+    if (program, place) not in places_of(lot) or word == "swap" and (program, place + 1) not in places_of(lot):
+        return "place"
+    marked = with_marks(lot)
+    steps = marked[program]
+    if word == "step":
+        try:
+            cell, kind, goes_by, name = check_step(told[2], lot.cells, place)
+        except BadStep:
+            return "step"
+        steps[place] = ((program, place), cell, kind, {(program, other) for other in goes_by}, name)
+    if word == "drop":
+        mark = steps.pop(place)[0]
+        if any(mark in step[3] for step in steps):
+            return "goes by"
+    if word == "swap":
+        if steps[place][0] in steps[place + 1][3]:
+            return "goes by"
+        steps[place], steps[place + 1] = steps[place + 1], steps[place]
+    try:
+        return of_marks(lot.cells, marked)
+    except BadLot:
+        return "lot"
+
+
+def made_up_edit(rng, lot):
+    """Any edit of a good form, mostly of a step that the lot has."""
+    word = rng.choice(("step", "drop", "fact", "swap"))
+    if word == "fact":
+        return word, rng.choice(all_facts(lot) + [("kept", 3, 0)])
+    program, place = rng.choice(places_of(lot) + [(0, 3), (2, 0)])
+    if word != "step":
+        return word, program, place
+    steps = lot.programs[program][:place] if program < len(lot) else ()
+    names = [step[3] for row in lot for step in row if step[3] >= 0] + [rng.randrange(100)] * 3
+    return word, program, place, made_up_step(rng, lot.cells, steps, rng.choice(names))
+
+
+def in_lists(thing):
+    return [in_lists(item) for item in thing] if isinstance(thing, tuple) else thing
+
+
+def plain_met(lot, goal):
+    """Whether the goal is met, by the words of [9.2]."""
+    word, row = goal
+    if word == "share":
+        greatest = let_weavings(lot)
+        return fractions.Fraction(len(greatest), len(all_weavings(lot))) >= fractions.Fraction(*row)
+    if tuple(row) not in all_weavings(lot):
+        return False
+    if word == "elder":
+        return tuple(row) in elder_weavings(lot)
+    return (tuple(row) in let_weavings(lot)) == (word == "lets")
+
+
+def made_up_goal(rng, lot):
+    word = rng.choice(("lets", "bars", "elder", "share"))
+    if word == "share":
+        return word, rng.choice(((0, 1), (1, 1), (1, 2), (2, 6), (3, 4), (6, 9), (5, 4)))
+    return word, rng.choice(all_weavings(lot))

@@ -4,9 +4,9 @@ import random
 import types
 import unittest
 
-from helper import OTHER_KINDS, GuardCase, blind_lot, made_up_lots
-from test_edits import in_lists, made_up_edit, plain_edit
-from test_mends import made_up_goal, plain_met
+from helper import (
+    OTHER_KINDS, GuardCase, blind_lot, in_lists, made_up_edit, made_up_goal, made_up_lots, plain_edit, plain_met,
+)
 from knownguards.bench import Bench
 from knownguards.edits import edited_through
 from knownguards.errors import BadEdit, BadGoal, NothingMade, TooMany

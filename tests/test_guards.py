@@ -6,7 +6,6 @@ import unittest
 
 from helper import OTHER_KINDS, GuardCase, blind_lot, made_up_guard_weavings, made_up_lots
 from knownguards.errors import BadGuard, BadRow, BadWeaving, NotAll, UnlikeLots
-from knownguards.facts import cells_floor
 from knownguards.guards import Guard, begins_let, judged_guard, lets_no_more, next_let
 from knownguards.letting import let_weavings
 from knownguards.lots import Lot
@@ -57,8 +56,7 @@ class GuardTest(GuardCase):
         self.assertEqual(Guard(EXAMPLE, LETS), Guard(Lot(2, EXAMPLE.programs), [list(one) for one in LETS[::-1]] * 2))
         self.assertFalse(Guard(EXAMPLE, LETS) != Guard(EXAMPLE, LETS))
         self.assertFalse(Guard(EXAMPLE, LETS) == Guard(EXAMPLE, LETS[:1] + LETS[2:]))
-        self.assertTrue(Guard(EXAMPLE, LETS) != Guard(cells_floor(EXAMPLE).with_program(EXAMPLE.programs[0])
-                                                      .without_program(2), LETS[:1] + LETS[3:]))
+        self.assertTrue(Guard(EXAMPLE, LETS) != Guard(EXAMPLE, LETS[:2] + LETS[3:]))
         other = lot_of_text("2: any 0 by 0 as 0; any 1 by 0 1 as 1 | any 0 by 0 as 2; any 1 by 0 1 as 4")
         self.assertFalse(Guard(EXAMPLE, LETS) == Guard(other, LETS))
         for other in (*OTHER_KINDS, 0, LETS, list(LETS), EXAMPLE):

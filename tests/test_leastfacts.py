@@ -163,7 +163,7 @@ class LeastFactsTest(GuardCase):
         self.assertFalse(facts_let(EXAMPLE, (), wish))
         self.assertEqual(least_facts(EXAMPLE, ALL_ADDS, wish), (at_0, at_1))
         self.assertEqual(barring_facts(EXAMPLE, ALL_ADDS, wish),
-                         tuple(tuple(sorted(couple)) for couple in itertools.product(at_0[:1] + at_0[1:], at_1)))
+                         tuple(tuple(sorted(couple)) for couple in itertools.product(at_0, at_1)))
         self.assertEqual(idle_facts(EXAMPLE, ALL_ADDS), ())
 
     def test_no_fact_needed_and_none_enough(self):
@@ -326,7 +326,7 @@ class TooManyTest(GuardCase):
     def test_two_hundred_and_ten_weavings(self):
         lot = blind_lot(2, 3, 2)
         self.refuses(TooMany, {"count": 3360}, idle_facts, lot, self.pool(4))
-        self.assertEqual(len(idle_facts(lot, self.pool(3))) <= 3, True)
+        self.assertLessEqual(len(idle_facts(lot, self.pool(3))), 3)
 
     def test_it_is_the_last_error(self):
         lot = blind_lot(2, 2, 2)

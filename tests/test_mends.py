@@ -1,19 +1,16 @@
 """[9.2], [9.3] and the example of part 9: goals and mends."""
 
-import fractions
 import itertools
 import random
 import unittest
 
 from helper import (
-    OTHER_KINDS, GuardCase, all_sets, blind_lot, least_of, made_up_lots, pool_facts, taken_facts, with_unlike_names,
+    OTHER_KINDS, GuardCase, all_sets, blind_lot, in_lists, least_of, made_up_edit, made_up_goal, made_up_lots, plain_met,
+    pool_facts, taken_facts, with_unlike_names,
 )
-from test_edits import in_lists, made_up_edit
 from knownguards.edits import edited_through
-from knownguards.elder import elder_weavings
 from knownguards.errors import BadEdit, BadGoal, BadMendPool, TooMany
 from knownguards.guards import Guard
-from knownguards.letting import let_weavings
 from knownguards.lottexts import lot_of_text
 from knownguards.mends import check_goals, find_mends, goal_met, mend_fault
 from knownguards.shares import share_of
@@ -23,26 +20,6 @@ EXAMPLE = lot_of_text("2: kept 0; any 0 by 0 as 0 | any 0 as 1; any 1 as 2")
 POOL = (("drop", 1, 1), ("step", 0, 1, (0, "any", (), 5)))
 LOTS = [EXAMPLE, blind_lot(2), blind_lot(1, 2), *[lot for lot in made_up_lots(60, "mends") if lot.total < 6]]
 MANY = ((blind_lot(2, 3, 2), 210), (blind_lot(4, 1, 2), 105), (blind_lot(2, 2, 3), 210), (blind_lot(3, 1, 3), 140))
-
-
-def plain_met(lot, goal):
-    """Whether the goal is met, by the words of [9.2]."""
-    word, row = goal
-    if word == "share":
-        greatest = let_weavings(lot)
-        return fractions.Fraction(len(greatest), len(all_weavings(lot))) >= fractions.Fraction(*row)
-    if tuple(row) not in all_weavings(lot):
-        return False
-    if word == "elder":
-        return tuple(row) in elder_weavings(lot)
-    return (tuple(row) in let_weavings(lot)) == (word == "lets")
-
-
-def made_up_goal(rng, lot):
-    word = rng.choice(("lets", "bars", "elder", "share"))
-    if word == "share":
-        return word, rng.choice(((0, 1), (1, 1), (1, 2), (2, 6), (3, 4), (6, 9), (5, 4)))
-    return word, rng.choice(all_weavings(lot))
 
 
 class CheckGoalsTest(GuardCase):
